@@ -306,6 +306,7 @@ func (b *builder) labelled(text string) string {
 }
 
 func TestChangedTexts(t *testing.T) {
+	t.Parallel()
 	b := builder{numbers{state: 5}}
 	met := map[int64]int{}
 	for range 3000 {

@@ -36,6 +36,7 @@ func TestClassesComeBack(t *testing.T) {
 }
 
 func TestInstructionsComeBack(t *testing.T) {
+	t.Parallel()
 	for _, c := range shownInstructions() {
 		comesBack(t, classOf(c.ins))
 		got := impl.Assemble("class A Object\nmethod m ()V static stack 0 locals 40\n" + c.text + "\n" + strings.Repeat("pop\n", 399) + "end")
@@ -156,6 +157,7 @@ func (b *builder) class() impl.Class {
 }
 
 func TestAnyClassComesBack(t *testing.T) {
+	t.Parallel()
 	b := builder{numbers{state: 3}}
 	for range 3000 {
 		c := b.class()

@@ -173,6 +173,7 @@ func showOracle(i impl.Ins) string {
 
 // Each instruction, with each value in each field and each two fields changed together: those that can be have their words, all others nothing.
 func TestShowInsEverywhere(t *testing.T) {
+	t.Parallel()
 	shown, refused := 0, 0
 	look := func(i impl.Ins) {
 		want := ""

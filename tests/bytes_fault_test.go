@@ -52,6 +52,7 @@ func TestMostBytes(t *testing.T) {
 
 // Each beginning of a file ends within a number or a text, or where one lacks.
 func TestBeginningsOfFiles(t *testing.T) {
+	t.Parallel()
 	b := builder{numbers{state: 31}}
 	classes := append(impl.Boot(), richClass(), fullClass(), classOfIns(impl.Ins{Op: impl.OpConst, Kind: impl.KindLong, A: minLong}), classOfIns(impl.Ins{Op: impl.OpText, Text: strings.Repeat("x", 200)}))
 	for range 20 {

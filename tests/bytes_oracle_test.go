@@ -275,6 +275,7 @@ func (b *builder) changedFile(file []byte) []byte {
 
 // Files that were changed are read as the oracle reads them; every code comes about, of most many times.
 func TestChangedFiles(t *testing.T) {
+	t.Parallel()
 	b := builder{numbers{state: 21}}
 	met := map[int64]int{}
 	for range 4000 {
@@ -299,6 +300,7 @@ func TestChangedFiles(t *testing.T) {
 
 // One byte of a file after the other, as each other that it can be (of a long file: some of them).
 func TestEachByteOfAFile(t *testing.T) {
+	t.Parallel()
 	for _, c := range []impl.Class{richClass(), impl.Boot()[0], {Name: "A", Super: "A"}} {
 		file, _ := writeFile(c)
 		step := 1

@@ -100,6 +100,7 @@ func classOfFile(t *testing.T, size int) impl.Class {
 
 // The file of a class may have more than MaxFile bytes; it is not read any more.
 func TestFilesAtMaxFile(t *testing.T) {
+	t.Parallel()
 	for _, size := range []int{199999, 200000, 200001, 200002} {
 		c := classOfFile(t, size)
 		file := impl.ClassBytes(c)

@@ -172,6 +172,7 @@ func TestClassBytesAnswersEverywhere(t *testing.T) {
 
 // The greatest class has a file, too, of far more bytes than are read.
 func TestFileOfTheGreatestClass(t *testing.T) {
+	t.Parallel()
 	c := impl.Class{Name: "A", Super: "B"}
 	for _, name := range manyNames(impl.MaxMany) {
 		m := impl.Method{Name: name, Sig: "()V", Flags: impl.FlagStatic, Stack: impl.MaxStack, Locals: impl.MaxLocals, Code: pops(impl.MaxCode)}

@@ -245,6 +245,7 @@ func TestNoFileOfWhatIsNoClass(t *testing.T) {
 }
 
 func TestAnyClassHasTheFileOfTheOracle(t *testing.T) {
+	t.Parallel()
 	b := builder{numbers{state: 4}}
 	for range 2000 {
 		c := b.class()

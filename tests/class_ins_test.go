@@ -176,6 +176,7 @@ func testIns(t *testing.T, all []row, i impl.Ins) {
 
 // Each instruction that is right, with each value in each field, and with each two fields changed together.
 func TestInstructions(t *testing.T) {
+	t.Parallel()
 	byOp := map[int64][]row{}
 	for _, r := range rows() {
 		byOp[r.op] = append(byOp[r.op], r)

@@ -155,6 +155,7 @@ func TestShapeNumbers(t *testing.T) {
 }
 
 func TestAllShortTexts(t *testing.T) {
+	t.Parallel()
 	name, typ, sig, shape := whole(namePattern), whole(typePattern), whole(sigPattern), whole(shapePattern)
 	look := func(s string) {
 		if impl.NameOk(s) != name.MatchString(s) {

@@ -400,6 +400,7 @@ func (w world) testMembers(t *testing.T, cs []impl.Class, a string) {
 }
 
 func TestAnySpace(t *testing.T) {
+	t.Parallel()
 	b := builder{numbers{state: 81}}
 	hold := 0
 	for k := range 150 {

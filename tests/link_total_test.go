@@ -50,6 +50,7 @@ func linkTexts() []string {
 }
 
 func TestLinksAnswerEverywhere(t *testing.T) {
+	t.Parallel()
 	spaces := oddSpaces()
 	for k, cs := range spaces {
 		texts := linkTexts()
@@ -102,6 +103,7 @@ func testLinksAt(t *testing.T, cs []impl.Class, name string) {
 }
 
 func TestSpacesStay(t *testing.T) {
+	t.Parallel()
 	b := builder{numbers{state: 92}}
 	all := [][]impl.Class{{richClass(), plainClass(), plainInterface()}, typeSpace()}
 	for _, cs := range wrongSpaces() {

@@ -268,6 +268,7 @@ func (b *builder) clashing() []impl.Loader {
 }
 
 func TestClashesOfAnyLoaders(t *testing.T) {
+	t.Parallel()
 	b := builder{numbers{state: 72}}
 	with, without := 0, 0
 	for range 3000 {

@@ -242,6 +242,7 @@ func flatOracle(ls []impl.Loader, k int64, c impl.Class) string {
 }
 
 func TestFlattenOfAnyLoaders(t *testing.T) {
+	t.Parallel()
 	b := builder{numbers{state: 71}}
 	for range 300 {
 		ls := b.loaders()

@@ -30,6 +30,7 @@ func oddLoaders() [][]impl.Loader {
 }
 
 func TestLoadersAnswerEverywhere(t *testing.T) {
+	t.Parallel()
 	texts := []string{"", "A", "Object", "@A", "$", "\xff\x00", strings.Repeat("A", 1<<20)}
 	for _, ls := range oddLoaders() {
 		ok := impl.LoadersOk(ls)

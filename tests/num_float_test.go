@@ -103,6 +103,7 @@ func TestFloatOpsThatAreNone(t *testing.T) {
 }
 
 func TestFloatOpAgainstExactNumbers(t *testing.T) {
+	t.Parallel()
 	floats := edgeFloats()
 	for _, op := range []int64{impl.OpAdd, impl.OpSub, impl.OpMul, impl.OpDiv, impl.OpNeg} {
 		for _, a := range floats {

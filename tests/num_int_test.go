@@ -96,6 +96,7 @@ func TestWholeOpsThatAreNone(t *testing.T) {
 }
 
 func TestWholeOpsAgainstExactNumbers(t *testing.T) {
+	t.Parallel()
 	row := numbers{1}
 	as := edgeNumbers()
 	for range 40 {
