@@ -87,7 +87,7 @@ func TestFramesThatLack(t *testing.T) {
 	right(t, withRef+"load R 0 / ifnull ne 3 / return / return / frame 3 - - |")
 }
 
-// targets are instructions that lead to 0, and what they want on the stack ahead.
+// jumpsTo gives all sorts of jumps to a target, each behind what it takes; of those with several targets the others are 0.
 func jumpsTo(target string) []string {
 	return []string{
 		"goto " + target, "const I 1 / if lt " + target, "const I 1 / const I 2 / ifint ge " + target, "null / ifnull eq " + target, "null / null / ifsame ne " + target,
@@ -150,7 +150,7 @@ func TestTheStateAtATarget(t *testing.T) {
 	wrongFrame(t, 2, m+"const J 1 / const I 1 / if eq 3 / return / frame 3 I - |")
 	right(t, m+"null / store R 0 / goto 3 / return / frame 3 @A - |")
 	wrongFrame(t, 2, m+"null / store R 0 / goto 3 / return / frame 3 I - |")
-	// A loop whose local changes: the second time it is of another kind.
+	// A loop whose local is of another kind the second time.
 	wrongFrame(t, 3, m+"load I 0 / conv I J / store J 0 / goto 0 / frame 0 I - |")
 	right(t, m+"load I 0 / conv I J / store J 1 / goto 0 / frame 0 I - |")
 	// Where an if goes on there is the very state that comes to its target.

@@ -357,7 +357,7 @@ func TestStoreInNew(t *testing.T) {
 			}
 		}
 	}
-	// Other methods' place 0 may be stored to, as may that of new where another class has Object's role in nothing but a name.
+	// Place 0 of other methods may be stored to; that of new may not, however near a class's name comes to Object's.
 	for _, method := range []string{"new1 ()V stack 3 locals 2", "start ()V static stack 3 locals 2", "m ()V static stack 3 locals 2"} {
 		try("class B A", method, "store R 0").leads(t, situated("!! - | @E"), situated("@E - |"))
 	}
