@@ -335,6 +335,9 @@ func TestSyncAtTheBottom(t *testing.T) {
 		cs := told(shared, "class M Object / method main ()V static sync stack 6 locals 6 / "+lines(begun("B", "b"), say(0), end)+" / method s ()V static sync stack 1 locals 0 / "+say(1)+" / return", runner("B", "", "call static M s ()V"))
 		same(t, end, shownOutcome(ran(t, cs, "M main ()V")), want)
 	}
+	// A frame of start is called by nobody: it takes no lock, and does not wait for the one that the first thread holds.
+	cs := told(shared, "class M Object / field x I static / method start ()V static sync stack 1 locals 0 / "+say(5)+" / return / method main ()V static sync stack 6 locals 6 / "+lines(begun("B", "b"), joined("b"), say(0))+" / return", runner("B", "", "getstatic M x I / pop"))
+	same(t, "start", shownOutcome(ran(t, cs, "M main ()V")), "ok : 5 0")
 	// A run with FlagSync: the thread goes on once the lock of its object is free, and holds it then.
 	run := runner("R", "sync", say(1))
 	hold := "getstatic S a @Thread / enter"
