@@ -708,6 +708,11 @@ func (p *play) tried(k int) (next *play, how string) {
 	if p.mayStand(k) {
 		next = p.copied()
 	}
+	return next, next.went(k)
+}
+
+// went does a step of thread k, and tells how that went.
+func (p *play) went(k int) (how string) {
 	defer func() {
 		switch x := recover().(type) {
 		case nil:
@@ -719,8 +724,8 @@ func (p *play) tried(k int) (next *play, how string) {
 			panic(x)
 		}
 	}()
-	next.step(k)
-	return next, "goes"
+	p.step(k)
+	return "goes"
 }
 
 func newPlay(cs []impl.Class, class, name, sig string, args []impl.Value) *play {
@@ -740,8 +745,11 @@ func newPlay(cs []impl.Class, class, name, sig string, args []impl.Value) *play 
 	if m.Flags&32 != 0 {
 		lock = "@" + class
 	}
-	p.threads = []puppet{{entry: lock}}
+	p.threads = []puppet{{}}
 	p.enterFrame(0, class, m, args, lock, "")
+	if lock != "" {
+		p.takeLock(0, lock, 1)
+	}
 	return p
 }
 
@@ -825,7 +833,7 @@ func TestAnyProgram(t *testing.T) {
 			})
 		}
 	})
-	c.enough(t)
+	c.enough(t, 20, 5)
 }
 
 // testProgram holds a program against the second working out, and against itself with less fuel.
@@ -864,16 +872,17 @@ func testLess(t *testing.T, cs []impl.Class, whole impl.Outcome, fuel int64) {
 	}
 }
 
-func (c *tallied) enough(t *testing.T) {
+// enough says that each end comes so often, and each thing happens so many times.
+func (c *tallied) enough(t *testing.T, ends, times int) {
 	t.Helper()
 	for _, code := range []int64{impl.RunOk, impl.RunFuel, impl.RunDead, impl.RunThrown} {
-		if c.codes[code] < 20 {
+		if c.codes[code] < ends {
 			t.Errorf("only %d runs end by %d: %v", c.codes[code], code, c.codes)
 		}
 	}
 	for _, what := range []string{"NullError", "ArithError", "BoundsError", "CastError", "StoreError", "SizeError", "StateError", "LinkError", "InitError", "StopError", "stopped while it waits", "throw", "wait", "notify", "wake", "begin", "join", "stop",
 		"stands: lock", "stands: class", "stands: join", "stands: entry", "stands: waits", "stands: wakes"} {
-		if c.events[what] < 5 {
+		if c.events[what] < times {
 			t.Errorf("only %d times: %s (%v)", c.events[what], what, c.events)
 		}
 	}
