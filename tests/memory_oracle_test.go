@@ -511,7 +511,7 @@ func eachPlayer(p impl.Litmus, words []string, most int) [][]impl.Act {
 	return out
 }
 
-// All programs of two short threads.
+// All programs of two threads with at most two of these acts, whichever thread comes first.
 func TestSightsOfEachSmallProgram(t *testing.T) {
 	t.Parallel()
 	c := &counted{times: map[string]int{}}
