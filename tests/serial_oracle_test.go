@@ -336,12 +336,10 @@ func (r *packReader) object(n int64) {
 	from := int64(r.at)
 	switch {
 	case d.typ == "@String":
-		ahead := *r
-		if r.count() > 200 {
+		o.Text = r.text()
+		if len(o.Text) > 200 {
 			panic(fault{impl.PackValue, from})
 		}
-		o.Text = ahead.text()
-		r.at = ahead.at
 	case d.typ[0] == '[':
 		size := r.count()
 		if size > 1000 {

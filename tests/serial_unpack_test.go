@@ -421,10 +421,19 @@ func TestUnpackValues(t *testing.T) {
 		}
 		unfit(t, "an array within", cs, packed(2, 2, 16, "[@Object", 2, 4, 2, numberBytes(n), 0), impl.PackValue, 18)
 	}
+	// Of a text that is too long and whose bytes lack, too, it is told that they lack.
 	for _, n := range []int64{201, 202, 1000, maxInt, maxLong} {
-		head := packed(2, 2, 14, "@String")
-		unfit(t, "a text", cs, laid(head, numberBytes(n)), impl.PackValue, 14)
-		unfit(t, "a text, with its bytes", cs, laid(head, numberBytes(n), repeated('x', 1100)), impl.PackValue, 14)
+		head := packed(2, 2, 14, "@String", numberBytes(n))
+		short := int64(len(head))
+		for _, there := range []int64{0, 1, 199, 200, 201, 999, 1000, 1100} {
+			b := laid(head, repeated('x', int(there)))
+			if there < n {
+				unfit(t, "a text of which bytes lack", cs, b, impl.BytesShort, short)
+			} else {
+				unfit(t, "a text that is too long", cs, b, impl.PackValue, 14)
+			}
+		}
+		unfit(t, "a text within", cs, packed(2, 2, 16, "[@Object", 2, 4, 4, 14, "@String", numberBytes(n), repeated('x', 150)), impl.BytesShort, short+12)
 	}
 	if got := impl.Unpack(cs, packed(2, 2, 4, "[I", numberBytes(1000), make([]byte, 1000))); got.Code != impl.BytesOk || len(got.Objects[0].Values) != 1000 {
 		t.Errorf("MaxArray: %d at %d", got.Code, got.At)
@@ -524,7 +533,9 @@ func TestUnpackTwoFaults(t *testing.T) {
 		{"a needless byte of a value that is too great", packed(2, 2, 4, "[I", 2, 254, 255, 255, 255, 255, 255, 0), impl.BytesNumber, 10},
 		{"too long an array, whose elements are wrong", packed(2, 2, 4, "[I", numberBytes(1001), 128, 0), impl.PackValue, 9},
 		{"a wrong element of many", packed(2, 2, 4, "[I", numberBytes(1000), 128, 0), impl.BytesNumber, 11},
-		{"too long a text, of which bytes lack", packed(2, 2, 14, "@String", numberBytes(201), "x"), impl.PackValue, 14},
+		{"too long a text, of which bytes lack", packed(2, 2, 14, "@String", numberBytes(201), "x"), impl.BytesShort, 16},
+		{"too long a text, then more", packed(2, 2, 14, "@String", numberBytes(201), repeated('x', 202)), impl.PackValue, 14},
+		{"too long an array, of which elements lack", packed(2, 2, 4, "[I", numberBytes(1001), 0), impl.PackValue, 9},
 		{"a text of which bytes lack", packed(2, 2, 14, "@String", numberBytes(200), "x"), impl.BytesShort, 16},
 		{"a count of a text below 0", packed(2, 2, 14, "@String", 1), impl.BytesNumber, 14},
 		{"a count of an array below 0", packed(2, 2, 4, "[I", 1), impl.BytesNumber, 9},
