@@ -311,6 +311,12 @@ func (s *unitScribe) function(statements int) string {
 
 // unit makes one of some functions, which call each other, and themselves.
 func (b *builder) unit() impl.Unit {
+	globals, funcs := b.unitTexts()
+	return unitTold(globals, funcs...)
+}
+
+// unitTexts has more functions behind those that are made, which call them, too.
+func (b *builder) unitTexts(more ...string) (string, []string) {
 	globals, sigs, funcs := []string{}, []string{}, []string{}
 	for range b.below(5) {
 		globals = append(globals, b.pick("I", "J"))
@@ -318,9 +324,13 @@ func (b *builder) unit() impl.Unit {
 	for range 1 + b.below(4) {
 		sigs = append(sigs, "("+strings.Join(words(b.pick("", "I", "J", "I I", "I J", "J I J")), ",")+")"+b.pick("I", "J", "I", "J", "V"))
 	}
-	for _, sig := range sigs {
+	made := len(sigs)
+	for _, f := range more {
+		sigs = append(sigs, words(f)[0])
+	}
+	for _, sig := range sigs[:made] {
 		s := &unitScribe{builder: b, globals: globals, sigs: sigs, sig: sig, room: 330}
 		funcs = append(funcs, s.function(1+b.below(7)))
 	}
-	return unitTold(strings.Join(globals, " "), funcs...)
+	return strings.Join(globals, " "), append(funcs, more...)
 }
