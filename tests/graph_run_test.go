@@ -9,10 +9,13 @@ import (
 	"loop.example/g00032/impl"
 )
 
-// graphRan gives the answer with all fuel that there may be, and looks that it is the same with just enough, that one less is too little, and that each count of steps below costs so much.
-func graphRan(t *testing.T, u impl.Unit, level, f int64, args ...int64) impl.UnitOut {
+// levelRun is GraphRun, or another one that goes by levels.
+type levelRun func(u impl.Unit, level int64, f int64, args []int64, fuel int64) impl.UnitOut
+
+// ran gives the answer with all fuel that there may be, and looks that it is the same with just enough, that one less is too little, and that each count of steps below costs so much.
+func (run levelRun) ran(t *testing.T, u impl.Unit, level, f int64, args ...int64) impl.UnitOut {
 	t.Helper()
-	o := impl.GraphRun(u, level, f, args, impl.MaxFuel)
+	o := run(u, level, f, args, impl.MaxFuel)
 	if o.Code == impl.UnitArgs {
 		same(t, "refused", o, impl.UnitOut{Code: impl.UnitArgs})
 		return o
@@ -21,7 +24,7 @@ func graphRan(t *testing.T, u impl.Unit, level, f int64, args ...int64) impl.Uni
 		if fuel < 0 || fuel > impl.MaxFuel {
 			continue
 		}
-		less := impl.GraphRun(u, level, f, args, fuel)
+		less := run(u, level, f, args, fuel)
 		if fuel >= o.Steps {
 			same(t, fmt.Sprint("with ", fuel), less, o)
 		} else if less.Code != impl.UnitFuel || less.N != 0 || less.Steps != fuel || len(less.Globals) != len(u.Globals) || len(less.Trace) > len(o.Trace) || !slices.Equal(less.Trace, o.Trace[:len(less.Trace)]) {
@@ -31,11 +34,16 @@ func graphRan(t *testing.T, u impl.Unit, level, f int64, args ...int64) impl.Uni
 	return o
 }
 
-// graphsDo looks for the end of runs of the first function, by each level: the steps are those of the levels from 0 on, the last one of all that are left.
 func graphsDo(t *testing.T, u impl.Unit, steps []int64, want string, args ...int64) {
 	t.Helper()
+	levelRun(impl.GraphRun).does(t, u, steps, want, args...)
+}
+
+// does looks for the end of runs of the first function, by each level: the steps are those of the levels from 0 on, the last one of all that are left.
+func (run levelRun) does(t *testing.T, u impl.Unit, steps []int64, want string, args ...int64) {
+	t.Helper()
 	for level := range int64(5) {
-		o := graphRan(t, u, level, 0, args...)
+		o := run.ran(t, u, level, 0, args...)
 		if got := shownUnitOut(o); got != want || o.Steps != steps[min(int(level), len(steps)-1)] {
 			t.Errorf("level %d, %v: %s behind %d steps\nnot %s behind %d", level, args, got, o.Steps, want, steps)
 		}

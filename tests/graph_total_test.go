@@ -120,9 +120,8 @@ func TestGraphAnswersTheSameAgain(t *testing.T) {
 	beside.Wait()
 }
 
-// As many functions as there may be, each of as much code, locals and places of the stack, with as many targets at each instruction, and blocks that stand against the way.
-func TestTheGreatestGraphs(t *testing.T) {
-	t.Parallel()
+// greatestUnit has as many functions as there may be, each of as much code, locals and places of the stack, with as many targets at each instruction, and blocks that stand against the way.
+func greatestUnit() impl.Unit {
 	u := impl.Unit{Globals: words(strings.Repeat("I J ", impl.MaxMany/2))}
 	for n := range int64(impl.MaxMany) {
 		f := impl.Func{Sig: "(I,I,I,I,I,I,I,I)I", Locals: impl.MaxLocals}
@@ -143,6 +142,12 @@ func TestTheGreatestGraphs(t *testing.T) {
 		}
 		u.Funcs = append(u.Funcs, f)
 	}
+	return u
+}
+
+func TestTheGreatestGraphs(t *testing.T) {
+	t.Parallel()
+	u := greatestUnit()
 	if !impl.UnitOk(u) {
 		t.Fatal("the greatest unit is not right")
 	}
